@@ -41,7 +41,8 @@ def call_write(notebook, nothing):
 def call_seed(notebook, number):
     if not 0 <= number <= SEED_LIMIT:
         return [SEED_OUT_OF_RANGE]
-    notebook.session.seed = number
+    session = notebook.session
+    session.seed = number
     return [0]
 
 

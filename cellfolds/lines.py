@@ -4,6 +4,9 @@ from cellfolds.documents import TEXT_LIMIT
 
 DIGIT_LIMIT = 9
 
+# The kind of fault that a line's own bytes have, whatever it means.
+WRONG_LINE = 1
+
 NEWLINE = 10
 BLANK = 32
 QUOTE = 34
@@ -85,14 +88,14 @@ class Scanner:
     def take(self, choices):
         byte = self.peek()
         if byte not in choices:
-            raise Fault(1, self.place)
+            raise Fault(WRONG_LINE, self.place)
         self.place += 1
         return byte
 
     def take_plain(self):
         byte = self.peek()
         if not is_plain(byte):
-            raise Fault(1, self.place)
+            raise Fault(WRONG_LINE, self.place)
         self.place += 1
         return byte
 
@@ -141,7 +144,7 @@ def read_word(scanner, words):
             scanner.place += count
             return word
         farthest = max(farthest, count)
-    raise Fault(1, scanner.place + farthest)
+    raise Fault(WRONG_LINE, scanner.place + farthest)
 
 
 def read_number(scanner):
@@ -189,7 +192,7 @@ def read_part(scanner, kind):
     return read_text(scanner)
 
 
-# Raises the fault 1 where no line with one of the words stands here; else the scanner is behind the line.
+# Raises a fault where no line with one of the words stands here; else the scanner is behind the line.
 def read_line(scanner, words):
     word = read_word(scanner, words)
     parts = []

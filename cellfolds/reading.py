@@ -32,15 +32,17 @@ def take_notebook(reader, line):
 
 
 def take_seed(reader, line):
-    reader.session.seed = line.parts[0]
+    session = reader.session
+    session.seed = line.parts[0]
     reader.awaited = ("next",)
     return NO_FAULT
 
 
 def take_next(reader, line):
+    session = reader.session
     if not 1 <= line.parts[0] <= NUMBER_LIMIT + 1:
         return OUT_OF_RANGE
-    reader.session.next_number = line.parts[0]
+    session.next_number = line.parts[0]
     reader.awaited = ("cell", "step", "here")
     return NO_FAULT
 
@@ -50,7 +52,7 @@ def take_cell(reader, line):
     number = line.parts[0]
     if len(base) == CELL_LIMIT or place_of(base, number) is not None:
         return OUT_OF_RANGE
-    # The next number is at most one above the greatest number that a cell may have.
+    # No number above 99 gets past this, as the next number is at most 100.
     if not 1 <= number < reader.session.next_number:
         return OUT_OF_RANGE
     base.append(Cell(number, line.parts[1], line.parts[2]))
@@ -91,7 +93,8 @@ def take_edit(reader, line):
 
 
 def take_here(reader, line):
-    reader.session.position = len(reader.session.steps)
+    session = reader.session
+    session.position = len(session.steps)
     reader.closing = "end"
     reader.awaited = ("step", "end")
     return NO_FAULT
