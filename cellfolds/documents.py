@@ -31,6 +31,14 @@ def exchanged(document, place, count, cells):
     return document[:place] + cells + document[place + count:]
 
 
+def told_document(document):
+    told = [len(document)]
+    for cell in document:
+        told.extend([cell.number, cell.mark, len(cell.text)])
+        told.extend(cell.text)
+    return told
+
+
 # The nine edits: each answers the new document, or None where it can't be done.
 
 def make_cell(document, parts):

@@ -1,8 +1,8 @@
 """The program's one function: the calls on a new notebook, laid into one list, and their answers."""
 
-from cellfolds.calls import Notebook, call_check, call_do, call_read, call_redo, call_seed, call_undo, call_write
+from cellfolds.calls import Notebook, call_append, call_at, call_check, call_do, call_fold, call_read, call_redo
+from cellfolds.calls import call_same, call_seed, call_state, call_to, call_undo, call_whole, call_write
 
-# The numbers 7 to 13 are kept for calls still to come.
 CALLS = {
     0: call_read,
     1: call_check,
@@ -11,12 +11,19 @@ CALLS = {
     4: call_do,
     5: call_undo,
     6: call_redo,
+    7: call_to,
+    8: call_fold,
+    9: call_append,
+    10: call_whole,
+    11: call_at,
+    12: call_state,
+    13: call_same,
 }
 
 # Behind these calls' numbers stands a row, with how many numbers it has before it.
-WITH_ROW = (0, 1, 4)
+WITH_ROW = (0, 1, 4, 9, 13)
 # Behind these calls' numbers stands one whole number.
-WITH_WHOLE = (3,)
+WITH_WHOLE = (3, 7, 8, 11)
 
 
 def answers(calls):
